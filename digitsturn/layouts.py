@@ -16,6 +16,7 @@ class Layout:
 
     lines: the words of each line of an actor, by its number; no other lines, so an actor's lines end at a gap
     first: the number of the first line of each actor
+    owners: the reader of each reading
     bounds: for each flag the number that it never reaches
     marks: for each actor the marks that something may be put into
     jumps: for an `if` the line to go to if its marks differ, for an `else` its `end`
@@ -26,6 +27,7 @@ class Layout:
         self.registers = []
         self.readers = []
         self.readings = []
+        self.owners = {}
         self.lines = {}
         self.first = {}
         self.bounds = {}
@@ -116,6 +118,7 @@ def read_read(layout, number, words):
     if words[3] != "as" or not is_new_name(layout, words[4]):
         return False
     layout.readings.append(words[4])
+    layout.owners[words[4]] = layout.actor
     layout.has_sweep = True
     return True
 

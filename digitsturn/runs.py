@@ -1,7 +1,7 @@
 """Runs: who does a step, what the registers hold then, and which calls have ended."""
 
 from digitsturn.errors import NoActor
-from digitsturn.moves import move, start
+from digitsturn.moves import move, put, start
 from digitsturn.texts import WRITER
 
 
@@ -21,17 +21,39 @@ class Run:
         self.rows = rows
         self.flags = (0,) * len(layout.flags)
         self.places = {actor: None for actor in layout.first}
-        self.cells = {name: list(rows[0]) for name in layout.registers}
+        self.cells = {name: rows[0] for name in layout.registers}
         # The greatest versions whose rounds have begun and have ended.
         self.begun = 0
         self.ended = 0
-        # For each reader within a call what is to be told of it: its `old` and the rows that were read.
-        self.olds = {}
-        self.found = {}
-        self.ended_calls = []
+        # What the present calls have: the `old` of each reader and the row of each reading, or None.
+        self.olds = {reader: None for reader in layout.readers}
+        self.found = {name: None for name in layout.readings}
+        # The call that ended with the latest step, or None.
+        self.call = None
+
+    def fork(self):
+        """Return a run that goes on from here, apart from this one."""
+        other = Run(self.layout, self.rows)
+        other.flags = self.flags
+        other.places = dict(self.places)
+        other.cells = dict(self.cells)
+        other.begun = self.begun
+        other.ended = self.ended
+        other.olds = dict(self.olds)
+        other.found = dict(self.found)
+        return other
+
+    def state(self):
+        """Return a tuple that tells apart the runs of one world and the same values, as far as it matters later."""
+        # In a row that is not read to its end, the cells still to be read have the digits of version 0 in each run.
+        return (
+            tuple(self.places.values()), self.flags, tuple(self.cells.values()), self.begun, self.ended,
+            tuple(self.olds.values()), tuple(self.found.values()),
+        )
 
     def step(self, actor):
         """Let an actor do a step, and return (actor, line, cell)."""
+        self.call = None
         place = self.places[actor]
         if place is None:
             return self.begin(actor)
@@ -46,30 +68,45 @@ class Run:
 
     def begin(self, actor):
         """Begin a round, if there is a value for it, or a call."""
-        if actor == WRITER:
-            if self.begun + 1 == len(self.rows):
-                return actor, None, None
-            self.begun += 1
-        else:
+        if actor != WRITER:
             self.olds[actor] = self.ended
-            self.found[actor] = {}
-        self.places[actor] = start(self.layout, actor)
+            self.places[actor] = start(self.layout, actor)
+        elif self.begun + 1 < len(self.rows):
+            self.begin_round(self.begun + 1)
+        else:
+            return actor, None, None
         return actor, 0, None
+
+    def begin_round(self, version):
+        """Begin the round of a version."""
+        self.begun = version
+        self.places[WRITER] = start(self.layout, WRITER)
 
     def keep(self, actor, words, cell):
         """Keep what a line did to the registers or to the readings."""
         if words[0] == "write":
-            self.cells[words[1]][cell] = self.rows[self.begun][cell]
+            self.cells[words[1]] = put(self.cells[words[1]], cell, self.rows[self.begun][cell])
         elif words[0] == "read":
-            row = self.found[actor].setdefault(words[4], list(self.rows[0]))
-            row[cell] = self.cells[words[1]][cell]
+            row = self.found[words[4]]
+            if row is None:
+                row = self.rows[0]
+            self.found[words[4]] = put(row, cell, self.cells[words[1]][cell])
         elif words[0] == "again":
-            self.found[actor] = {}
+            self.forget(actor)
+
+    def forget(self, reader):
+        """Take the readings of a reader away."""
+        for name, owner in self.layout.owners.items():
+            if owner == reader:
+                self.found[name] = None
 
     def finish(self, actor):
         """End a round or a call. No sweep is left unfinished then, so each row that was found is whole."""
         if actor == WRITER:
             self.ended = self.begun
             return
-        readings = {name: tuple(row) for name, row in self.found[actor].items()}
-        self.ended_calls.append((actor, self.olds[actor], self.begun, readings))
+        owners = self.layout.owners
+        readings = {name: row for name, row in self.found.items() if row is not None and owners[name] == actor}
+        self.call = (actor, self.olds[actor], self.begun, readings)
+        self.forget(actor)
+        self.olds[actor] = None

@@ -23,9 +23,12 @@ class World:
         """Return the calls that have ended in a run, each as (reader, old, new, readings)."""
         order = checked_actors(self.layout, actors)
         play = Run(self.layout, checked_values(values))
+        calls = []
         for actor in order:
             play.step(actor)
-        return play.ended_calls
+            if play.call is not None:
+                calls.append(play.call)
+        return calls
 
     def steps(self, values, actors):
         """Yield (actor, line, cell) for each step of a run."""

@@ -15,7 +15,7 @@ NODES = (
     ast.BoolOp, ast.BinOp, ast.UnaryOp, ast.IfExp, ast.Dict, ast.ListComp, ast.DictComp, ast.comprehension,
     ast.Compare, ast.Call, ast.keyword, ast.Constant, ast.Attribute, ast.Subscript, ast.Slice, ast.Name, ast.List,
     ast.Tuple, ast.expr_context, ast.boolop, ast.unaryop, ast.cmpop, ast.Add, ast.Sub, ast.Mult, ast.FloorDiv, ast.Mod,
-    ast.Del, ast.Delete, ast.Lambda, ast.Try, ast.ExceptHandler,
+    ast.Del, ast.Delete, ast.Lambda, ast.Try, ast.ExceptHandler, ast.JoinedStr, ast.FormattedValue,
 )
 BUILTINS = (
     "len range enumerate zip min max sum abs sorted reversed int str bool list tuple dict set isinstance ord repr any "
@@ -141,7 +141,8 @@ class LanguageTest(unittest.TestCase):
             for name in bound_names(function):
                 self.assertNotIn(name, vars(builtins), path)
                 self.assertNotIn(name, outer, path)
-                self.assertNotIn(name, NO_NAMES, path)
+                # A parameter or a local variable may have this name.
+                self.assertNotIn(name, [word for word in NO_NAMES if word != "register"], path)
                 self.assertRegex(name, r"\A(_|_?[a-z][a-z0-9_]*)\Z", path)
             self.assertNotIn(function.name, NO_NAMES, path)
             self.assertNotIn(function.name, vars(builtins), path)
@@ -215,6 +216,35 @@ class LanguageTest(unittest.TestCase):
             self.assertNotIn(function.name, stored)
         for path, node in nodes(ast.Yield):
             self.assertIsInstance(parents(TREES[path])[node], ast.Expr, path)
+
+    def test_methods_of_one_name_take_the_same(self):
+        """So a call can be read without knowing which class it is of."""
+        taken = {}
+        for _, tree in nodes(ast.ClassDef):
+            for item in tree.body:
+                if isinstance(item, ast.FunctionDef) and item.name != "__init__":
+                    many = len(item.args.args)
+                    self.assertEqual(taken.setdefault(item.name, many), many, (tree.name, item.name))
+
+    def test_no_name_is_a_method_and_an_attribute(self):
+        methods = {item.name for _, tree in nodes(ast.ClassDef) for item in tree.body
+                   if isinstance(item, ast.FunctionDef)}
+        stored = {node.attr for _, node in nodes(ast.Attribute) if isinstance(node.ctx, ast.Store)}
+        self.assertEqual(methods & stored, set())
+
+    def test_finally_only_assigns_names(self):
+        for path, node in nodes(ast.Try):
+            for item in node.finalbody:
+                self.assertIsInstance(item, ast.If, path)
+                self.assertIsInstance(item.test.ops[0], ast.IsNot, path)
+                for inner in item.body:
+                    self.assertIsInstance(inner, ast.Assign, path)
+                    self.assertIsInstance(inner.value, ast.Name, path)
+
+    def test_caught_errors_are_those_of_the_package(self):
+        known = [node.name for node in TREES[PACKAGE / "errors.py"].body if isinstance(node, ast.ClassDef)]
+        for path, node in nodes(ast.ExceptHandler):
+            self.assertIn(node.type.id, known, path)
 
     def test_raise_makes_an_error_of_the_package(self):
         known = [node.name for node in TREES[PACKAGE / "errors.py"].body if isinstance(node, ast.ClassDef)]

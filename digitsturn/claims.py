@@ -1,0 +1,35 @@
+"""Claims about readings, for all numbers of cells, all rising values and all runs."""
+
+from digitsturn.breaks import shortest_break
+from digitsturn.forms import read_claim
+
+
+def holds(world, claim):
+    """Tell whether a claim holds; raises BadClaim(), NoReading(name), NotTogether()."""
+    return broken_by(world, claim) is None
+
+
+def broken_by(world, claim):
+    """Return (values, actors) of a shortest run that breaks a claim, or None if the claim holds.
+
+    Raises BadClaim(), NoReading(name), NotTogether().
+    """
+    return shortest_break(world.layout, read_claim(world.layout, claim))
+
+
+def claims_of(world):
+    """Return all claims that can be made of a world."""
+    told = []
+    for one in world.readings:
+        told += [f"old <= {one}", f"{one} <= new", f"whole {one}"]
+    owners = world.layout.owners
+    for one in world.readings:
+        told += [f"{one} <= {two}" for two in world.readings if two != one and owners[two] == owners[one]]
+    for one in world.readings:
+        told += [f"{one} then {two}" for two in world.readings]
+    return told
+
+
+def kept_claims(world):
+    """Return those claims of a world that hold."""
+    return [claim for claim in claims_of(world) if holds(world, claim)]
