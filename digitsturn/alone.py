@@ -28,7 +28,7 @@ class Standstill:
 
     def followers(self, run):
         """Return (actor, run) for all steps that may come next."""
-        return [(actor, later) for actor, _, later in next_runs(run)]
+        return next_runs(run)
 
     def is_found(self, run):
         """Tell whether the actor is within a round or call that it never ends alone."""

@@ -1,92 +1,105 @@
 """Looks for a run that breaks a claim."""
 
-from digitsturn.forms import NEW, OLD, THEN, TOGETHER, WHOLE
-from digitsturn.runs import Run
-from digitsturn.searches import next_runs, shortest_way
+from digitsturn.boards import BROKEN, Board, part
+from digitsturn.patterns import broken_rows
+from digitsturn.texts import WRITER
+from digitsturn.tracks import REST, ReaderTrack, WriterTrack
 
-# One cell with a step and two cells with a carry are enough for all numbers of cells and all rising values.
-STEP = ((0,), (1,))
-CARRY = ((0, 1), (1, 0))
-
-
-class Break:
-    """The search for a run that breaks a claim, by values that turn once.
-
-    A node is (run, greatest, bound, broken). For `V then W`, greatest is the greatest V of the calls that have ended,
-    and bound what that was when the present call of W's reader began; None: there is none. Version 0 of the run stands
-    for all versions below the turn, version 1 for all others.
-    """
-
-    def __init__(self, layout, claim, rows):
-        self.layout = layout
-        self.form, self.names = claim
-        self.rows = rows
-        self.reader = layout.owners[self.names[-1]]
-
-    def beginning(self):
-        """Return the node of a run in which nothing is done yet."""
-        return Run(self.layout, self.rows), None, None, False
-
-    def key(self, node):
-        """Return a tuple that is the same for nodes from which the same may follow."""
-        run, greatest, bound, broken = node
-        return run.state(), greatest, bound, broken
-
-    def is_found(self, node):
-        """Tell whether the claim is broken."""
-        return node[3]
-
-    def followers(self, node):
-        """Return ((actor, version), node) for all steps that may come next."""
-        return [((actor, version), self.behind(node, actor, run)) for actor, version, run in next_runs(node[0])]
-
-    def behind(self, node, actor, run):
-        """Return the node behind a step of an actor that led to this run."""
-        before, greatest, bound, _ = node
-        if run.call is not None:
-            broken = self.is_broken(run.call, bound)
-            if actor == self.reader:
-                bound = None
-            return run, self.greater(greatest, run.call[3]), bound, broken
-        if actor == self.reader and before.places[actor] is None:
-            bound = greatest
-        return run, greatest, bound, False
-
-    def greater(self, greatest, readings):
-        """Return the greatest V, these readings of a call included."""
-        row = readings.get(self.names[0])
-        if self.form != THEN or row is None:
-            return greatest
-        if greatest is None or row > greatest:
-            return row
-        return greatest
-
-    def is_broken(self, call, bound):
-        """Tell whether a call breaks the claim."""
-        if self.form == WHOLE:
-            return call[3].get(self.names[0], self.rows[0]) not in self.rows
-        low, high = self.sides(call, bound)
-        return low is not None and high is not None and low > high
-
-    def sides(self, call, bound):
-        """Return what must be at most the other for this call; None: the call does not have it."""
-        _, old, new, readings = call
-        row = readings.get(self.names[-1])
-        if self.form == OLD:
-            return self.rows[old], row
-        if self.form == NEW:
-            return row, self.rows[new]
-        if self.form == TOGETHER:
-            return readings.get(self.names[0]), row
-        return bound, row
+# The values ahead of the turn and behind it, by the number of cells: one cell with a step and two cells with a carry.
+# They are enough for all numbers of cells and all rising values.
+VALUES = {1: ((0,), (1,)), 2: ((0, 1), (1, 0))}
 
 
-def shortest_break(layout, claim):
-    """Return (values, actors) of a shortest run that breaks a claim, or None."""
+def is_broken(cone):
+    """Tell whether a run breaks the claim of a cone."""
+    for many in VALUES:
+        if broken_rows(cone.form, many) and broken_way(tracks_of(cone, many), None) is not None:
+            return True
+    return False
+
+
+def shortest_break(cone):
+    """Return (values, actors) of a shortest run that breaks the claim of a cone, or None."""
     told = None
-    for rows in (STEP, CARRY):
-        way = shortest_way(Break(layout, claim, rows))
-        if way is not None and (told is None or len(way) < len(told[1])):
-            values = [rows[0]] + [rows[version] for _, version in way if version is not None]
-            told = (values, [actor for actor, _ in way])
+    most = None
+    for many in VALUES:
+        if broken_rows(cone.form, many):
+            tracks = tracks_of(cone, many)
+            way = broken_way(tracks, most)
+            if way is not None:
+                told = run_of(tracks, way)
+                most = len(told[1]) - 1
     return told
+
+
+def tracks_of(cone, many):
+    """Return the tracks of the actors that matter, with so many cells, the writer's first."""
+    board = Board(cone, many)
+    told = [WriterTrack(board, cone.outlines[0])]
+    return told + [ReaderTrack(board, outline) for outline in cone.outlines[1:]]
+
+
+def broken_way(tracks, most):
+    """Return the states of a shortest way to where the claim is broken, or None if there is none.
+
+    most: how many steps it may have; None: any number
+    """
+    ways = {0: None}
+    level = [0]
+    steps = 0
+    while level and steps != most:
+        level = next_level(tracks, level, ways)
+        steps += 1
+        if level and level[-1] & BROKEN:
+            return way_to(ways, level[-1])
+    return None
+
+
+def next_level(tracks, level, ways):
+    """Return the states that are first reached by a step from this level; if one is broken, it is the last of them.
+
+    ways: for each state that was reached the state ahead of it; more is added
+    """
+    # Nearly all of the time goes into these loops, so they ask for no attributes.
+    parts = [(track.place[0], track.place[1], track.rows, track) for track in tracks]
+    later = []
+    for state in level:
+        for shift, mask, rows, track in parts:
+            place = (state & mask) >> shift
+            looks, known = rows[place]
+            view = state & looks
+            changes = known.get(view)
+            if changes is None:
+                changes = track.find_changes(place, view)
+            for change in changes:
+                other = state ^ change
+                if other not in ways:
+                    ways[other] = state
+                    later.append(other)
+                    if other & BROKEN:
+                        return later
+    return later
+
+
+def way_to(ways, state):
+    """Return the states that lead to a state, the first one first."""
+    told = []
+    while state is not None:
+        told.append(state)
+        state = ways[state]
+    return told[::-1]
+
+
+def run_of(tracks, way):
+    """Return (values, actors) of the run that goes through these states."""
+    board = tracks[0].board
+    rows = VALUES[board.many]
+    values = [rows[0]]
+    actors = []
+    for before, behind in zip(way, way[1:]):
+        # Each step leads its actor to another place, and no other one.
+        track = [one for one in tracks if (before ^ behind) & one.place[1]][0]
+        actors.append(track.outline.actor)
+        if track.outline.actor == WRITER and part(before, track.place) == REST:
+            values.append(rows[part(behind, board.begun)])
+    return values, actors

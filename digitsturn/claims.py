@@ -1,12 +1,13 @@
 """Claims about readings, for all numbers of cells, all rising values and all runs."""
 
-from digitsturn.breaks import shortest_break
+from digitsturn.breaks import is_broken, shortest_break
+from digitsturn.cones import Cone, outlines_of
 from digitsturn.forms import read_claim
 
 
 def holds(world, claim):
     """Tell whether a claim holds; raises BadClaim(), NoReading(name), NotTogether()."""
-    return broken_by(world, claim) is None
+    return not is_broken(cone_of(world, claim))
 
 
 def broken_by(world, claim):
@@ -14,7 +15,13 @@ def broken_by(world, claim):
 
     Raises BadClaim(), NoReading(name), NotTogether().
     """
-    return shortest_break(world.layout, read_claim(world.layout, claim))
+    return shortest_break(cone_of(world, claim))
+
+
+def cone_of(world, claim):
+    """Return what matters for a claim; raises BadClaim(), NoReading(name), NotTogether()."""
+    form = read_claim(world.layout, claim)
+    return Cone(world.layout, outlines_of(world.layout), form)
 
 
 def claims_of(world):
@@ -32,4 +39,7 @@ def claims_of(world):
 
 def kept_claims(world):
     """Return those claims of a world that hold."""
-    return [claim for claim in claims_of(world) if holds(world, claim)]
+    layout = world.layout
+    outlines = outlines_of(layout)
+    forms = [(claim, read_claim(layout, claim)) for claim in claims_of(world)]
+    return [claim for claim, form in forms if not is_broken(Cone(layout, outlines, form))]

@@ -52,12 +52,20 @@ def place_in_sweep(layout, many, place):
 
 def place_at(layout, line, marks):
     """Return the place at a line, or None if no line is left there."""
+    line = next_line(layout, line)
+    if line is None:
+        return None
+    return line, 0, marks
+
+
+def next_line(layout, line):
+    """Return the line that whoever comes to a line does next, or None if no line is left there."""
     # `else` and `end` take no step: whoever comes to an `else` from above goes to its `end`.
     while line in layout.lines and layout.lines[line][0] in ("else", "end"):
         line = layout.jumps.get(line, line + 1)
     if line not in layout.lines:
         return None
-    return line, 0, marks
+    return line
 
 
 def flag_holds(layout, flags, flag):

@@ -1,11 +1,12 @@
 """Plans: worlds in which directions of sweeps and lines are left open, and what of them must be chosen."""
 
-from digitsturn.claims import holds
+from digitsturn.breaks import is_broken
+from digitsturn.cones import Cone, outlines_of
 from digitsturn.errors import BadChoice, BadPlan, BadWorld
 from digitsturn.forms import read_claim
 from digitsturn.layouts import read_layout
 from digitsturn.moves import SWEEPS
-from digitsturn.texts import lines_of
+from digitsturn.texts import WRITER, lines_of
 from digitsturn.worlds import World
 
 MOST_WORDS = 8
@@ -68,6 +69,19 @@ def chosen_text(rows, choice):
     return "\n".join(told)
 
 
+def optional_sweeps(rows):
+    """Return for each actor all of whose sweeps may be left out where the words `perhaps` of these lie in a choice."""
+    told = []
+    at = 0
+    for found, words in rows:
+        if words[0] in (WRITER, "reader"):
+            told.append([])
+        elif words[0] in SWEEPS:
+            told[-1].append(at if "perhaps" in found else None)
+        at += len(found)
+    return [places for places in told if None not in places]
+
+
 class Plan:
     """A plan, read from its text. It never changes."""
 
@@ -75,6 +89,7 @@ class Plan:
         self.rows = split_lines(text)
         self.layout = read_plain(self.rows)
         self.text = text
+        self.sweeps = optional_sweeps(self.rows)
         self.places = tuple([
             (number, word) for number, (found, _) in enumerate(self.rows, start=1) for word in found
         ])
@@ -87,12 +102,9 @@ class Plan:
         return [choice for choice in told if self.is_possible(choice)]
 
     def is_possible(self, choice):
-        """Tell whether a choice gives a world."""
-        try:
-            self.world(choice)
-        except BadChoice:
-            return False
-        return True
+        """Tell whether a choice with a right word for each place gives a world."""
+        # A line that is left out takes nothing from the others that they need, but each actor must have a sweep.
+        return all([any([choice[at] == "with" for at in places]) for places in self.sweeps])
 
     def world(self, choice):
         """Return the world of a choice; raises BadChoice()."""
@@ -109,19 +121,35 @@ class Plan:
 
 def safe(plan, claims):
     """Return the safe choices in ascending order; raises BadClaim(), NoReading(name), NotTogether()."""
-    names = []
-    for claim in claims:
-        names += read_claim(plan.layout, claim)[1]
-    return [choice for choice in plan.choices() if is_safe(plan.world(choice), claims, names)]
+    forms = [read_claim(plan.layout, claim) for claim in claims]
+    # Many choices give the same text, and many texts differ only in lines that do not matter for a claim.
+    texts = {}
+    digests = {}
+    told = []
+    for choice in plan.choices():
+        text = chosen_text(plan.rows, choice)
+        if text not in texts:
+            texts[text] = is_safe(read_layout(text), forms, digests)
+        if texts[text]:
+            told.append(choice)
+    return told
 
 
-def is_safe(world, claims, names):
-    """Tell whether a world has all these readings and keeps all claims."""
-    for name in names:
-        if name not in world.readings:
+def is_safe(layout, forms, digests):
+    """Tell whether a world has all readings of some claims and keeps all of them.
+
+    digests: whether a claim is broken, by the digest of what matters for it; more is added
+    """
+    for _, names in forms:
+        if not all([name in layout.owners for name in names]):
             return False
-    for claim in claims:
-        if not holds(world, claim):
+    outlines = outlines_of(layout)
+    for form in forms:
+        cone = Cone(layout, outlines, form)
+        digest = cone.digest()
+        if digest not in digests:
+            digests[digest] = is_broken(cone)
+        if digests[digest]:
             return False
     return True
 
@@ -129,12 +157,22 @@ def is_safe(world, claims, names):
 def least(plan, claims):
     """Return the least safe choices in ascending order; raises BadClaim(), NoReading(name), NotTogether()."""
     told = safe(plan, claims)
-    return [choice for choice in told if not any([has_less(other, choice) for other in told])]
+    taken = {}
+    for choice in told:
+        taken.setdefault(directions(choice), []).append(taken_lines(choice))
+    return [choice for choice in told if is_least(taken_lines(choice), taken[directions(choice)])]
 
 
-def has_less(one, other):
-    """Tell whether a choice has the same directions as another one and `with` at fewer of the same places."""
-    if one == other:
-        return False
-    pairs = list(zip(one, other))
-    return all([few == many or (few, many) == ("without", "with") for few, many in pairs])
+def directions(choice):
+    """Return the directions of a choice."""
+    return tuple([word for word in choice if word in CHOICES["any"]])
+
+
+def taken_lines(choice):
+    """Return where a choice has the word `with`, as bits of a number."""
+    return sum([1 << at for at, word in enumerate(choice) if word == "with"])
+
+
+def is_least(lines, others):
+    """Tell whether none of the others has fewer of the same lines."""
+    return not any([other != lines and other & lines == other for other in others])

@@ -43,14 +43,6 @@ class Run:
         other.found = dict(self.found)
         return other
 
-    def state(self):
-        """Return a tuple that tells apart the runs of one world and the same values, as far as it matters later."""
-        # In a row that is not read to its end, the cells still to be read have the digits of version 0 in each run.
-        return (
-            tuple(self.places.values()), self.flags, tuple(self.cells.values()), self.begun, self.ended,
-            tuple(self.olds.values()), tuple(self.found.values()),
-        )
-
     def step(self, actor):
         """Let an actor do a step, and return (actor, line, cell)."""
         self.call = None

@@ -8,28 +8,19 @@ from digitsturn.texts import WRITER
 
 
 def next_runs(run):
-    """Return (actor, version, run) for all steps that may come next; version is None if no round begins.
+    """Return (actor, run) for all steps that may come next.
 
-    A round may also begin that does not go on to the next version: it stands for one of a version of equal value.
-    So a run over few values stands for all runs in which only so many versions differ from the one ahead of them.
+    A round that begins stays at the version of the one ahead of it: it stands for a round of a version of equal value.
     """
     told = []
     for actor in list(run.places):
+        later = run.fork()
         if actor == WRITER and run.places[actor] is None:
-            for version in range(run.begun, len(run.rows)):
-                told.append((actor, version, run_with_round(run, version)))
+            later.begin_round(run.begun)
         else:
-            later = run.fork()
             later.step(actor)
-            told.append((actor, None, later))
+        told.append((actor, later))
     return told
-
-
-def run_with_round(run, version):
-    """Return the run behind the beginning of a round."""
-    later = run.fork()
-    later.begin_round(version)
-    return later
 
 
 def shortest_way(search):

@@ -176,6 +176,14 @@ class FormsTest(Told):
         self.assertFalse(holds(TWICE, "w <= v"))
         self.check_break(TWICE, "w <= v")
 
+    def test_one_cell_and_two_cells(self):
+        # One cell needs the whole round, two cells only its first step, but two steps for each reading.
+        for many, cells, length in ((0, 1, 6), (1, None, 7), (2, 2, 7), (3, 2, 7)):
+            made = world("flag f 2", "register x", "register y", "writer", "write y up", *["set f 1"] * many,
+                         "write x down", "reader r", "read y down as v", "read x down as w")
+            values, _ = self.check_break(made, "w <= v", length)
+            self.assertIn(len(values[0]), (1, 2) if cells is None else (cells,))
+
     def test_whole(self):
         self.check_kept(TURNS, "old <= v", "v <= new", "whole v", "v then v")
         values, _ = self.check_break(PLAIN, "whole v")

@@ -15,7 +15,8 @@ NODES = (
     ast.BoolOp, ast.BinOp, ast.UnaryOp, ast.IfExp, ast.Dict, ast.ListComp, ast.DictComp, ast.comprehension,
     ast.Compare, ast.Call, ast.keyword, ast.Constant, ast.Attribute, ast.Subscript, ast.Slice, ast.Name, ast.List,
     ast.Tuple, ast.expr_context, ast.boolop, ast.unaryop, ast.cmpop, ast.Add, ast.Sub, ast.Mult, ast.FloorDiv, ast.Mod,
-    ast.Del, ast.Delete, ast.Lambda, ast.Try, ast.ExceptHandler, ast.JoinedStr, ast.FormattedValue,
+    ast.BitAnd, ast.BitOr, ast.BitXor, ast.LShift, ast.RShift, ast.Invert, ast.Del, ast.Delete, ast.Lambda,
+    ast.Try, ast.ExceptHandler, ast.JoinedStr, ast.FormattedValue,
 )
 BUILTINS = (
     "len range enumerate zip min max sum abs sorted reversed int str bool list tuple dict set isinstance ord repr any "

@@ -319,6 +319,14 @@ class SafeTest(unittest.TestCase):
         self.assertEqual(none, [])
         self.check(text, "v <= new", "v <= new")
 
+    def test_claims_that_differ_only_in_the_order_of_their_names(self):
+        text = lines("register x", "register y", "writer", "write x any", "write y any", "reader r", "read y any as v",
+                     "read x any as w")
+        for one, two in (("v <= w", "w <= v"), ("v then w", "w then v")):
+            self.assertNotEqual(self.check(text, one), self.check(text, two))
+            self.check(text, one, two)
+            self.check(text, two, one)
+
     def test_readings_that_only_some_choices_have(self):
         told, few = self.check(MORE, "w <= new")
         self.assertEqual((told, few), ([], []))
